@@ -26,6 +26,10 @@ UNWRITTEN = re.compile(r"\b(type|typing|typing_extensions|enum|Enum|IntEnum|StrE
                        r"ABCMeta|namedtuple|NamedTuple|TypedDict|TYPE_CHECKING|abstractmethod)\b|"
                        r"dataclass|overload|contextmanager")
 WALKED = ["zip", "enumerate", "reversed", "range"]
+WALKED_METHODS = ["items", "keys", "values"]
+WALKERS = ["list", "tuple", "dict", "sorted", "sum", "any", "all", "enumerate", "zip"]
+KEYWORDS = {"sorted": ("key", "reverse"), "min": ("key", "default"), "max": ("key", "default"), "sum": ("start",),
+            "enumerate": ("start",), "zip": ("strict",)}
 
 
 def walked(sort):
@@ -33,6 +37,20 @@ def walked(sort):
         for node in ast.walk(ast.parse(path.read_text())):
             if isinstance(node, sort):
                 yield f"{path.name}:{getattr(node, 'lineno', 0)}", node
+
+
+def name_of(call):
+    return call.func.id if isinstance(call.func, ast.Name) else call.func.attr
+
+
+def called_with_what_is_above(names, methods):
+    for path in FILES:
+        for above in ast.walk(ast.parse(path.read_text())):
+            for node in ast.iter_child_nodes(above):
+                if isinstance(node, ast.Call):
+                    known = names if isinstance(node.func, ast.Name) else methods
+                    if name_of(node) in known:
+                        yield f"{path.name}:{node.lineno}", node, above
 
 
 def is_docstring(statement):
@@ -177,13 +195,41 @@ class Form(unittest.TestCase):
             self.assertIn(node.attr, own + OWN_METHODS, place)
             self.assertNotIn(node.attr, NO_METHODS + UNUSED, place)
 
-    def test_sets_and_walks_are_not_kept(self):
-        for place, node in walked((ast.Assign, ast.Return)):
-            if isinstance(node.value, ast.Call) and isinstance(node.value.func, ast.Name):
-                self.assertNotIn(node.value.func.id, WALKED + ["set", "frozenset"], place)
-        for place, node in walked(ast.For):
-            if isinstance(node.iter, ast.Call) and isinstance(node.iter.func, ast.Name):
-                self.assertNotIn(node.iter.func.id, ["set", "frozenset"], place)
+    def test_walks_stand_where_they_are_walked(self):
+        for place, node, above in called_with_what_is_above(WALKED, WALKED_METHODS):
+            if isinstance(above, (ast.For, ast.comprehension)):
+                self.assertIs(above.iter, node, place)
+            else:
+                self.assertIsInstance(above, ast.Call, place)
+                self.assertIs(above.args[0], node, place)
+                self.assertTrue(name_of(above) in WALKERS
+                                or name_of(above) in ("min", "max") and len(above.args) == 1
+                                or name_of(above) == "join" and isinstance(above.func.value, ast.Constant), place)
+
+    def test_sets_are_not_kept(self):
+        for place, node, above in called_with_what_is_above(["set", "frozenset"], []):
+            if isinstance(above, ast.Call):
+                self.assertIn(name_of(above), ("sorted", "len"), place)
+                self.assertEqual(above.keywords, [], place)
+            else:
+                self.assertIsInstance(above, (ast.Compare, ast.BinOp), place)
+
+    def test_keywords(self):
+        for place, node in walked(ast.Call):
+            for keyword in node.keywords:
+                self.assertIn(keyword.arg, KEYWORDS.get(name_of(node), ()), place)
+
+    def test_no_local_is_called_like_a_class_or_an_import(self):
+        for path in FILES:
+            body = ast.parse(path.read_text()).body
+            taken = [name for node in body if isinstance(node, ast.ImportFrom) for name in bound_names(node)]
+            taken += [node.name for node in body if isinstance(node, ast.ClassDef)]
+            for node in body:
+                if isinstance(node, (ast.FunctionDef, ast.ClassDef)):
+                    local = [name for part in node.body for name in bound_names(part)]
+                    if isinstance(node, ast.FunctionDef):
+                        local += list(bound_names(node.args))
+                    self.assertEqual(set(local) & set(taken), set(), (path.name, node.name))
 
 
 if __name__ == "__main__":

@@ -3,15 +3,14 @@ import itertools
 import random
 import unittest
 
+from tests.helpers import HUGE, halves, some_saying, some_world, wrapped
 from twinrounds.errors import NoName, NoThing, NoWord
 from twinrounds.sayings import depth, free_names, is_so, parts
 from twinrounds.worlds import World
 
-HUGE = 10 ** 59 + 3
 RED_X = ("mark", "red", "x")
 NEAR_XY = ("tie", "near", "x", "y")
 SAME_XY = ("same", "x", "y")
-FACT_SORTS = ("mark", "tie", "same")
 
 
 def slow_is_so(world, saying, places):
@@ -31,46 +30,6 @@ def slow_is_so(world, saying, places):
         return slow_is_so(world, saying[1], places) or slow_is_so(world, saying[2], places)
     answers = [slow_is_so(world, saying[2], {**places, saying[1]: thing}) for thing in range(world.size)]
     return any(answers) if sort == "some" else all(answers)
-
-
-def some_world(dice, size):
-    things = range(size)
-    marks = {word: [thing for thing in things if dice.random() < 0.5] for word in ("red", "wet")}
-    ties = {word: [pair for pair in itertools.product(things, things) if dice.random() < 0.4]
-            for word in ("near", "by")}
-    return World(size, marks, ties)
-
-
-def some_saying(dice, names, most_deep, most_within):
-    sorts = list(FACT_SORTS)
-    if most_within > 0:
-        sorts += ["not", "both", "both", "either", "either"]
-        if most_deep > 0:
-            sorts += ["some", "some", "all", "all"] * 2
-    sort = dice.choice(sorts)
-    if sort == "mark":
-        return sort, dice.choice(["red", "wet"]), dice.choice(names)
-    if sort == "tie":
-        return sort, dice.choice(["near", "by"]), dice.choice(names), dice.choice(names)
-    if sort == "same":
-        return sort, dice.choice(names), dice.choice(names)
-    if sort in ("some", "all"):
-        return sort, dice.choice(names), some_saying(dice, names, most_deep - 1, most_within - 1)
-    count = 1 if sort == "not" else 2
-    return (sort,) + tuple(some_saying(dice, names, most_deep, most_within - 1) for turn in range(count))
-
-
-def halves(sort, sayings):
-    if len(sayings) == 1:
-        return sayings[0]
-    middle = len(sayings) // 2
-    return sort, halves(sort, sayings[:middle]), halves(sort, sayings[middle:])
-
-
-def wrapped(saying, layers):
-    for layer in layers:
-        saying = ("not", saying) if layer == "not" else (layer[0], layer[1], saying)
-    return saying
 
 
 class Counting(unittest.TestCase):

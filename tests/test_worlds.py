@@ -2,10 +2,10 @@ import copy
 import itertools
 import unittest
 
-from twinrounds.errors import NoThing, NoWord, TooGreat
+from tests.helpers import HUGE, Refusals, told_whole
+from twinrounds.errors import NoWord, TooGreat
 from twinrounds.worlds import World
 
-HUGE = 10 ** 59 + 3
 KEPT = ["not", "and", "or", "some", "all"]
 NO_WORDS = KEPT + ["", "abcdefghi", "Red", "rED", "R", "red1", "1", "re d", " red", "red ", " ", "re_d",
                    "re-d", "red(", "~", "a`", "a{", "re.d", "z" * 60]
@@ -13,30 +13,12 @@ WORDS = ["a", "z", "abcdefgh", "zzzzzzzz", "nor", "nots", "no", "ot", "ands", "a
          "somes", "som", "ome", "alls", "al", "ll", "any", "in", "if", "mark", "tie", "same", "both", "either"]
 
 
-class Checks(unittest.TestCase):
-    def refused(self, error, fields, call, *handed):
-        with self.assertRaises(error) as caught:
-            call(*handed)
-        self.assertIs(caught.exception.__class__, error)
-        told = {name: getattr(caught.exception, name) for name in fields}
-        self.assertEqual(told, fields)
-        for name, value in fields.items():
-            self.assertIs(told[name].__class__, value.__class__)
-
+class Checks(Refusals):
     def no_word(self, word, call, *handed):
         self.refused(NoWord, {"word": word}, call, *handed)
 
-    def no_thing(self, thing, call, *handed):
-        self.refused(NoThing, {"thing": thing}, call, *handed)
-
     def too_great(self, number, most, call, *handed):
         self.refused(TooGreat, {"number": number, "most": most}, call, *handed)
-
-    def told_whole(self, world):
-        marks = {word: [world.has(word, thing) for thing in range(world.size)] for word in world.mark_words()}
-        ties = {word: [world.leads(word, one, other) for one in range(world.size) for other in range(world.size)]
-                for word in world.tie_words()}
-        return world.size, marks, ties
 
     def is_as_made(self, world, size, marks, ties):
         self.assertEqual(world.size, size)
@@ -132,18 +114,18 @@ class Apart(Checks):
     def test_another_world_changes_nothing(self):
         lists = ({"red": [0]}, {"near": [(0, 1)]})
         world = World(2, *lists)
-        ahead = self.told_whole(world)
+        ahead = told_whole(world)
         World(3, {"red": [1, 2], "wet": [0]}, {"near": [(2, 2)], "by": []})
         World(2, *lists)
-        self.assertEqual(self.told_whole(world), ahead)
+        self.assertEqual(told_whole(world), ahead)
 
     def test_a_refused_asking_changes_nothing(self):
         world = World(2, {"red": [0]}, {"near": [(0, 1)]})
-        ahead = self.told_whole(world)
+        ahead = told_whole(world)
         self.no_word("wet", world.has, "wet", 0)
         self.no_thing(2, world.has, "red", 2)
         self.no_thing(-1, world.leads, "near", 0, -1)
-        self.assertEqual(self.told_whole(world), ahead)
+        self.assertEqual(told_whole(world), ahead)
 
     def test_a_good_world_is_made_behind_a_refusal(self):
         marks, ties = {"red": [0, 1]}, {"near": [(0, 7)]}
