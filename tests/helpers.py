@@ -4,7 +4,7 @@ import copy
 import itertools
 import unittest
 
-from twinrounds.errors import NoThing, Unlike
+from twinrounds.errors import NoThing, RoundError, Unlike
 from twinrounds.worlds import World
 
 HUGE = 10 ** 59 + 3
@@ -133,6 +133,65 @@ def small_worlds(most):
                             {"t": [pair for at, pair in enumerate(pairs) if led[at]]})
 
 
+def ordered(size):
+    return World(size, {}, {"under": [(one, other) for one in range(size) for other in range(one + 1, size)]})
+
+
+def block_worlds():
+    """Each way of putting up to five things in blocks, with ties from all of a block to all of it."""
+    for size in range(6):
+        for home in itertools.combinations_with_replacement(range(size), size):
+            sizes = [home.count(block) for block in range(size)]
+            if sizes == sorted(sizes, reverse=True):
+                yield World(size, {}, {"by": [(one, other) for one in range(size) for other in range(size)
+                                              if home[one] == home[other]]})
+
+
+def some_change(dice, world):
+    """The world with one fact the other way, or the world itself where there are no facts."""
+    things = range(world.size)
+    places = list(itertools.product(world.mark_words(), things))
+    places += list(itertools.product(world.tie_words(), itertools.product(things, things)))
+    return differing(world, *dice.choice(places)) if places else world
+
+
+def some_cases(dice, turns):
+    """Two worlds of one speech and pairs: the second is the first with its things in another order, the
+    same with one fact changed, or one of its own size; the pairs go by that order or are any."""
+    for turn in range(turns):
+        marks = ("red", "wet", "big")[:dice.randrange(4)]
+        ties = ("near", "by", "under")[:dice.randrange(4)]
+        share = dice.choice([0, 0.1, 0.4, 1])
+        one = some_world(dice, dice.randrange(6), marks, ties, share)
+        order = dice.sample(range(one.size), one.size)
+        other = turned(one, order)
+        if turn % 4 == 1:
+            other = some_change(dice, other)
+        if turn % 4 > 1:
+            other = some_world(dice, dice.randrange(6), marks, ties, share)
+        if turn % 4 < 2 and turn % 3 > 0:
+            yield one, other, kept_pairs(dice, order, dice.randrange(6))
+        else:
+            yield one, other, some_pairs(dice, one, other, dice.randrange(6))
+
+
+def full_world(size, marked, tied):
+    """A world of six words: the marks on every thing or on none, the ties from each thing to each or not at all."""
+    things = range(size)
+    return World(size, {word: list(things) if marked else [] for word in ("red", "wet", "big")},
+                 {word: list(itertools.product(things, things)) if tied else [] for word in ("near", "by", "under")})
+
+
+def places_of(pairs, side):
+    """The first letters, as many as there are pairs, standing for the pairs' things of a side."""
+    return {"abcdefghijklmnopqrstuvwxyz"[at]: pair[side] for at, pair in enumerate(pairs)}
+
+
+def lying_within(saying):
+    """How many parts of a saying lie one within another at most, itself among them."""
+    return 1 + max([lying_within(part) for part in saying[1:] if isinstance(part, tuple)], default=0)
+
+
 class PairCalls(Refusals):
     """What holds for each function of two worlds and pairs: a call is handed these three."""
 
@@ -144,7 +203,7 @@ class PairCalls(Refusals):
             ahead = copy.deepcopy((pairs, told_whole(one), told_whole(other)))
             try:
                 call(one, other, pairs)
-            except NoThing:
+            except RoundError:
                 pass
             self.assertEqual((pairs, told_whole(one), told_whole(other)), ahead)
 

@@ -3,8 +3,8 @@ import random
 import time
 import unittest
 
-from tests.helpers import (PairCalls, differing, halves, kept_pairs, slow_fits, slow_matchings, small_worlds,
-                           some_pairs, some_saying, some_world, turned, wrapped)
+from tests.helpers import (PairCalls, block_worlds, differing, halves, kept_pairs, ordered, slow_fits, slow_matchings,
+                           small_worlds, some_pairs, some_saying, some_world, turned, wrapped)
 from twinrounds.errors import NoThing, Unlike
 from twinrounds.rounds import groups, lasts, rank
 from twinrounds.sayings import is_so
@@ -35,20 +35,6 @@ def slow_rank(one, other, pairs, known):
     most = max(one.size, other.size) + 2
     lasted = [slow_lasts(one, other, pairs, count, known) for count in range(most)]
     return None if all(lasted) else lasted.index(False)
-
-
-def ordered(size):
-    return World(size, {}, {"under": [(one, other) for one in range(size) for other in range(one + 1, size)]})
-
-
-def block_worlds():
-    """Each way of putting up to five things in blocks, with ties from all of a block to all of it."""
-    for size in range(6):
-        for home in itertools.combinations_with_replacement(range(size), size):
-            sizes = [home.count(block) for block in range(size)]
-            if sizes == sorted(sizes, reverse=True):
-                yield World(size, {}, {"by": [(one, other) for one in range(size) for other in range(size)
-                                              if home[one] == home[other]]})
 
 
 class Checks(unittest.TestCase):

@@ -19,9 +19,10 @@ class Ranks:
         self.endless = max(one.size, other.size) + 1
 
     def rank_of(self, pairs):
-        if not all_fit(self.one, self.other, pairs):
-            return 0
-        return self.rank_of_fitting(tuple(sorted(set(pairs))))
+        known = tuple(sorted(set(pairs)))
+        if known not in self.reckoned and not all_fit(self.one, self.other, known):
+            self.reckoned[known] = 0
+        return self.rank_of_fitting(known)
 
     def rank_of_fitting(self, pairs):
         if pairs not in self.reckoned:
@@ -49,6 +50,10 @@ class Ranks:
             reached.append(self.best_rank(pairs, [(first, second) for first in firsts]))
         return min(self.endless, 1 + min(reached, default=self.endless))
 
+    def told_rank(self, pairs):
+        reached = self.rank_of(pairs)
+        return None if reached == self.endless else reached
+
     def last(self, pairs, count):
         reached = self.rank_of(pairs)
         return reached == self.endless or count < reached
@@ -61,9 +66,7 @@ def lasts(one, other, pairs, count):
 
 def rank(one, other, pairs):
     refuse_strange_pairs(one, other, pairs)
-    ranks = Ranks(one, other)
-    reached = ranks.rank_of(pairs)
-    return None if reached == ranks.endless else reached
+    return Ranks(one, other).told_rank(pairs)
 
 
 def first_alike(ranks, thing, count):
